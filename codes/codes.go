@@ -10,6 +10,10 @@ import (
 // Lengths tells the length of each byte's code, 0 for a byte that has none.
 type Lengths [256]int
 
+// most is the length that no code may pass: up to here codes are numbers that
+// do not wrap round, and only a text of millions of bytes has one as long.
+const most = 32
+
 // group is some bytes that share the beginning of their codes.
 type group struct {
 	weight  int
@@ -83,6 +87,37 @@ func (l Lengths) Bytes() []byte {
 	return bytes
 }
 
+// Order tells which bytes have a code, by the codes' lengths, those of one
+// length by their numbers.
+func (l Lengths) Order() []byte {
+	order := l.Bytes()
+	slices.SortStableFunc(order, func(a, b byte) int { return cmp.Compare(l[a], l[b]) })
+	return order
+}
+
+// Longest tells the length of the longest code.
+func (l Lengths) Longest() int { return slices.Max(l[:]) }
+
+// Whole tells whether codes have such lengths: together they take up all that
+// can follow, none of it twice. Only a byte that is alone leaves half of it.
+func (l Lengths) Whole() bool {
+	coded := l.Bytes()
+	if len(coded) == 0 {
+		return true
+	}
+	if len(coded) == 1 {
+		return l[coded[0]] == 1
+	}
+	if l.Longest() > most {
+		return false
+	}
+	taken := uint64(0)
+	for _, b := range coded {
+		taken += 1 << (most - l[b])
+	}
+	return taken == 1<<most
+}
+
 // Code is a row of bits, as a number: its highest bit comes first.
 type Code struct {
 	Number uint
@@ -97,11 +132,9 @@ type Table [256]Code
 
 // Assign gives the codes that go with the lengths.
 func Assign(lengths Lengths) Table {
-	order := lengths.Bytes()
-	slices.SortStableFunc(order, func(a, b byte) int { return cmp.Compare(lengths[a], lengths[b]) })
 	var table Table
 	var next Code
-	for i, b := range order {
+	for i, b := range lengths.Order() {
 		longer := lengths[b] - next.Length
 		if i > 0 {
 			next.Number++

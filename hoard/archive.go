@@ -17,9 +17,8 @@ func archive(files []api.File) string {
 	text, ends := joinFiles(files)
 	places := rows.Sort(text)
 	lengths := codes.Measure(text)
-	table := codes.Assign(lengths)
 	endBits := index.MakeEnds(ends, len(text))
-	tree := index.MakeTree(rows.Column(text, places), &table)
+	tree := index.MakeTree(rows.Column(text, places), lengths)
 	samples := index.MakeSamples(places)
 
 	out := []byte(mark)

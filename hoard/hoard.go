@@ -1,7 +1,13 @@
 // Package hoard packs files into an index of them. See DOC.md.
 package hoard
 
-import "hoard/api"
+import (
+	"strings"
+
+	"hoard/api"
+	"hoard/index"
+	"hoard/walk"
+)
 
 // Pack packs files (P3, P4).
 func Pack(files []api.File) (string, api.Errno) {
@@ -12,16 +18,54 @@ func Pack(files []api.File) (string, api.Errno) {
 }
 
 // Archive is an archive that was loaded.
-type Archive struct{}
+type Archive struct {
+	names   []string
+	ends    index.Ends
+	rows    index.Rows
+	samples index.Samples
+}
 
-// Load loads an archive (P5).
-func Load(s string) (*Archive, api.Errno) { return nil, api.OK }
+// Load loads an archive (P5). Bytes that can be read need not be an archive
+// yet: they are, if they are what Pack makes of the files that come out.
+func Load(s string) (*Archive, api.Errno) {
+	a, ok := read(s)
+	if !ok {
+		return nil, api.ErrBytes
+	}
+	again, fault := Pack(a.Unpack())
+	if fault != api.OK || again != s {
+		return nil, api.ErrBytes
+	}
+	return a, api.OK
+}
 
 // List tells the files' names and sizes (P6).
-func (a *Archive) List() []api.Entry { return nil }
+func (a *Archive) List() []api.Entry {
+	if a == nil {
+		return nil
+	}
+	entries := make([]api.Entry, len(a.names))
+	for i, name := range a.names {
+		from, to := a.ends.File(i)
+		entries[i] = api.Entry{Name: strings.Clone(name), Size: to - from}
+	}
+	return entries
+}
 
 // Unpack gives all files back (P7).
-func (a *Archive) Unpack() []api.File { return nil }
+func (a *Archive) Unpack() []api.File {
+	if a == nil {
+		return nil
+	}
+	// The empty ending's row is the first, and all of the text is ahead of it.
+	text := walk.Back(a.rows.Longer, 0, a.rows.Total())
+	files := make([]api.File, len(a.names))
+	for i, name := range a.names {
+		from, to := a.ends.File(i)
+		files[i] = api.File{Name: strings.Clone(name), Content: string(text[from:to])}
+	}
+	return files
+}
 
 // Extract gives a part of a file (P8).
 func (a *Archive) Extract(file int, at int, n int) (string, api.Errno) {

@@ -88,8 +88,8 @@ func TestByHand(t *testing.T) {
 	}
 }
 
-// The edges, held against the reference.
-func TestEdges(t *testing.T) {
+// edges tells files of all kinds that may just be.
+func edges() map[string][]api.File {
 	full := make([]string, api.MaxFiles)
 	for i := range full {
 		full[i] = someBytes(uint32(i), api.MaxTotal/api.MaxFiles, 30)
@@ -97,7 +97,8 @@ func TestEdges(t *testing.T) {
 	longest := named("x", "y")
 	longest[0].Name = strings.Repeat("\x00", api.MaxName)
 	longest[1].Name = strings.Repeat("\xff", api.MaxName)
-	for what, files := range map[string][]api.File{
+	return map[string][]api.File{
+		"no files":                      {},
 		"one empty file":                empties(1),
 		"as many empty files as may be": empties(api.MaxFiles),
 		"as many files, as full":        named(full...),
@@ -116,7 +117,12 @@ func TestEdges(t *testing.T) {
 		"two bytes up to the total":     named(strings.Repeat("ab", api.MaxFile/2), strings.Repeat("ab", api.MaxFile/2)),
 		"some bytes up to the total":    named(someBytes(2, api.MaxFile, 256), someBytes(3, api.MaxFile, 256)),
 		"the same file twice":           named(someBytes(4, api.MaxFile, 9), someBytes(4, api.MaxFile, 9)),
-	} {
+	}
+}
+
+// The edges, held against the reference.
+func TestEdges(t *testing.T) {
+	for what, files := range edges() {
 		if s, want := packed(t, files), referenceArchive(files); s != want {
 			t.Errorf("%s: %x, want %x", what, s, want)
 		}
@@ -179,22 +185,22 @@ func TestTies(t *testing.T) {
 
 func endBytes(end int) string { return inBytes(referenceEnds([]int{end}, end)) }
 
-// Every text of up to nine bytes of two kinds, in every two files.
-func TestSmall(t *testing.T) {
+// small tells every text of up to nine bytes of two kinds, in some two files.
+func small() [][]api.File {
+	var all [][]api.File
 	for length := range 10 {
 		for number := range 1 << length {
 			text := strings.NewReplacer("0", "\x00", "1", "\x80").Replace(numberBits(number, length))
 			cut := number % (length + 1)
-			files := named(text[:cut], text[cut:])
-			if s, want := packed(t, files), referenceArchive(files); s != want {
-				t.Fatalf("%q, %q: %x, want %x", text[:cut], text[cut:], s, want)
-			}
+			all = append(all, named(text[:cut], text[cut:]))
 		}
 	}
+	return all
 }
 
-// Texts of every length and of several kinds of bytes, in several files.
-func TestMany(t *testing.T) {
+// many tells texts of every length and of several kinds of bytes, in several files.
+func many() [][]api.File {
+	var all [][]api.File
 	for length := range 300 {
 		text := someBytes(uint32(length), length, 1+length%41)
 		var contents []string
@@ -203,7 +209,13 @@ func TestMany(t *testing.T) {
 			contents = append(contents, text[:cut])
 			text = text[cut:]
 		}
-		files := named(append(contents, text)...)
+		all = append(all, named(append(contents, text)...))
+	}
+	return all
+}
+
+func TestMany(t *testing.T) {
+	for _, files := range slices.Concat(small(), many()) {
 		if s, want := packed(t, files), referenceArchive(files); s != want {
 			t.Fatalf("%q: %x, want %x", files, s, want)
 		}

@@ -12,16 +12,43 @@ import (
 // What stands here works an archive out a second time, by the document's words
 // alone: bits are texts of 0 and 1, codes too, and nothing is made quick.
 
-func referenceArchive(files []api.File) string {
+// parts is what an archive is put together from, in its order: but for the sum.
+type parts struct {
+	mark, files, total, root, names, ends, codes, tree, samples string
+}
+
+func (p parts) sealed() string {
+	return sealed(p.mark + p.files + p.total + p.root + p.names + p.ends + p.codes + p.tree + p.samples)
+}
+
+func referenceArchive(files []api.File) string { return referenceParts(files).sealed() }
+
+func referenceParts(files []api.File) parts {
 	text := ""
 	var ends []int
+	names := ""
 	for _, f := range files {
 		text += f.Content
 		ends = append(ends, len(text))
+		names += lowFirst(len(f.Name), 1) + f.Name
 	}
 	places := referencePlaces(text)
-	column := ""
-	root := 0
+	column, root := referenceColumn(text, places)
+	codes := referenceCodes(text)
+	return parts{
+		mark:    "HOARD1",
+		files:   lowFirst(len(files), 1),
+		total:   lowFirst(len(text), 2),
+		root:    lowFirst(root, 2),
+		names:   names,
+		ends:    inBytes(referenceEnds(ends, len(text))),
+		codes:   toldCodes(codes),
+		tree:    inBytes(referenceTree(column, codes)),
+		samples: inBytes(referenceSamples(places)),
+	}
+}
+
+func referenceColumn(text string, places []int) (column string, root int) {
 	for row, place := range places {
 		if place == 0 {
 			root = row
@@ -29,21 +56,17 @@ func referenceArchive(files []api.File) string {
 			column += text[place-1 : place]
 		}
 	}
-	codes := referenceCodes(text)
-	s := "HOARD1" + string([]byte{byte(len(files))}) + lowFirst(len(text), 2) + lowFirst(root, 2)
-	for _, f := range files {
-		s += lowFirst(len(f.Name), 1) + f.Name
-	}
-	s += inBytes(referenceEnds(ends, len(text)))
-	s += lowFirst(len(codes), 2)
+	return column, root
+}
+
+func toldCodes(codes map[byte]string) string {
+	s := lowFirst(len(codes), 2)
 	for b := range 256 {
 		if code, has := codes[byte(b)]; has {
 			s += string([]byte{byte(b), byte(len(code))})
 		}
 	}
-	s += inBytes(referenceTree(column, codes))
-	s += inBytes(referenceSamples(places))
-	return sealed(s)
+	return s
 }
 
 // sealed tells some bytes with their sum behind.
@@ -87,7 +110,9 @@ func referencePlaces(text string) []int {
 	return places
 }
 
-func referenceCodes(text string) map[byte]string {
+func referenceCodes(text string) map[byte]string { return canonical(referenceLengths(text)) }
+
+func referenceLengths(text string) map[byte]int {
 	type group struct {
 		weight int
 		bytes  string
@@ -118,6 +143,10 @@ func referenceCodes(text string) map[byte]string {
 		}
 		groups = append([]group{both}, groups[2:]...)
 	}
+	return lengths
+}
+
+func canonical(lengths map[byte]int) map[byte]string {
 	codes := map[byte]string{}
 	ahead := ""
 	for length := 1; length < 64; length++ {

@@ -45,8 +45,7 @@ func TestTree(t *testing.T) {
 		// 0 1 0 1; of 0: a 0, b 1; of 1: d 1, c 0
 		{"adbc", "\x6a", 8},
 	} {
-		table := codes.Assign(codes.Measure(c.column))
-		row := MakeTree([]byte(c.column), &table)
+		row := MakeTree([]byte(c.column), codes.Measure(c.column))
 		if row.Packed() != c.want || row.Len() != c.bits {
 			t.Errorf("%s: %x, %d bits, want %x, %d bits", c.column, row.Packed(), row.Len(), c.want, c.bits)
 		}

@@ -6,45 +6,142 @@ import (
 )
 
 // Tree is the column, each byte as its code, the codes' bits laid apart by
-// what stands ahead of them in the code.
+// what stands ahead of them in the code. It stands on counted bits: how many
+// ones are ahead in a node tells where to go on in the next one.
 type Tree struct {
-	bitrow.Bits
+	bitrow.Counted
+	nodes   []node
+	weights [256]int
+	total   int
 }
 
-// node is the bytes of the column whose codes share their first depth bits.
+// node is a beginning of codes, depth bits long, which so many bytes of the
+// column have; their next bits stand in the row from one place on.
 type node struct {
-	column []byte
-	depth  int
+	depth, from, size int
+	branches          [2]branch
 }
 
-// MakeTree makes the row from the column. Nodes are taken in the order in which
-// they were found: that is by depth, and in one depth by number.
-func MakeTree(column []byte, table *codes.Table) Tree {
-	var row Tree
-	waiting := []node{{column, 0}}
-	for len(waiting) > 0 {
-		here := waiting[0]
-		waiting = waiting[1:]
-		for _, child := range row.addNode(here, table) {
-			if len(child.column) > 0 {
-				waiting = append(waiting, child)
+// branch is what goes on behind a bit: a whole code's byte, or a node. With
+// neither nothing goes on there: no branch goes back to the first node.
+type branch struct {
+	whole bool
+	value byte
+	node  int
+}
+
+// shape tells the nodes by their depth, those of one depth by their numbers.
+// The lengths must be whole. Then, in that order too, the codes of a depth
+// come ahead of what is longer.
+func shape(lengths codes.Lengths) []node {
+	left := lengths.Order()
+	nodes := []node{{}}
+	for i := 0; i < len(nodes); i++ {
+		depth := nodes[i].depth + 1
+		for side := range 2 {
+			switch {
+			case len(left) == 0:
+				// There is one byte alone, or none: nothing goes on here.
+			case lengths[left[0]] == depth:
+				nodes[i].branches[side] = branch{whole: true, value: left[0]}
+				left = left[1:]
+			default:
+				nodes[i].branches[side] = branch{node: len(nodes)}
+				nodes = append(nodes, node{depth: depth})
 			}
 		}
 	}
-	return row
+	return nodes
 }
 
-// addNode adds the bits of a node, and tells what goes on behind a 0 and behind
-// a 1. A byte whose code is at its end goes on in neither.
-func (t *Tree) addNode(n node, table *codes.Table) [2]node {
-	next := [2]node{{depth: n.depth + 1}, {depth: n.depth + 1}}
-	for _, b := range n.column {
-		code := table[b]
-		side := code.Bit(n.depth)
-		t.Add(side == 1)
-		if code.Length > n.depth+1 {
-			next[side].column = append(next[side].column, b)
+// MakeTree makes the row from the column, whose bytes all have a code.
+func MakeTree(column []byte, lengths codes.Lengths) Tree {
+	table := codes.Assign(lengths)
+	nodes := shape(lengths)
+	columns := make([][]byte, len(nodes))
+	columns[0] = column
+	var row bitrow.Writer
+	for i, here := range nodes {
+		for _, b := range columns[i] {
+			side := table[b].Bit(here.depth)
+			row.Add(side)
+			if next := here.branches[side]; !next.whole {
+				columns[next.node] = append(columns[next.node], b)
+			}
 		}
 	}
-	return next
+	tree := Tree{Counted: bitrow.Count(row.Row()), nodes: nodes, total: len(column)}
+	tree.lay()
+	return tree
+}
+
+// ReadTree reads the row of a column of total bytes from the front of some
+// bytes. It is refused where it runs past them, or no codes have such lengths.
+func ReadTree(bytes string, total int, lengths codes.Lengths) (Tree, bool) {
+	if !lengths.Whole() {
+		return Tree{}, false
+	}
+	// How long the row is, only its bits tell; but not longer than this.
+	most := min(8*len(bytes), total*lengths.Longest())
+	tree := Tree{Counted: bitrow.Count(bitrow.Read(bytes, most)), nodes: shape(lengths), total: total}
+	length, fits := tree.lay()
+	if !fits {
+		return Tree{}, false
+	}
+	tree.Counted = bitrow.Count(bitrow.Read(bytes, length))
+	return tree, true
+}
+
+// lay tells each node where its bits stand, and the tree how often it has each
+// byte; and how many bits all nodes have. It does not fit if they are more than
+// the row has, or bits go on where nothing does.
+func (t *Tree) lay() (length int, fits bool) {
+	t.nodes[0].size = t.total
+	for i := range t.nodes {
+		here := &t.nodes[i]
+		here.from = length
+		length += here.size
+		if length > t.Len() {
+			return 0, false
+		}
+		ones := t.Ones(length) - t.Ones(here.from)
+		if !t.share(here.branches[0], here.size-ones) || !t.share(here.branches[1], ones) {
+			return 0, false
+		}
+	}
+	return length, true
+}
+
+// share gives a branch so many bytes of the column.
+func (t *Tree) share(to branch, size int) bool {
+	switch {
+	case to.whole:
+		t.weights[to.value] = size
+	case to.node > 0:
+		t.nodes[to.node].size = size
+	default:
+		return size == 0
+	}
+	return true
+}
+
+// Total tells how many bytes the column has.
+func (t *Tree) Total() int { return t.total }
+
+// Byte tells a byte of the column, by its number from 0 on, and how many of its
+// kind stand ahead of it there.
+func (t *Tree) Byte(at int) (b byte, ahead int) {
+	var here branch
+	for !here.whole {
+		from := t.nodes[here.node].from
+		side := t.Bit(from + at)
+		ones := t.Ones(from+at) - t.Ones(from)
+		if side == 1 {
+			at = ones
+		} else {
+			at -= ones
+		}
+		here = t.nodes[here.node].branches[side]
+	}
+	return here.value, at
 }
