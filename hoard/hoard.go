@@ -2,6 +2,7 @@
 package hoard
 
 import (
+	"slices"
 	"strings"
 
 	"hoard/api"
@@ -72,7 +73,15 @@ func (a *Archive) Extract(file int, at int, n int) (string, api.Errno) {
 	if a == nil {
 		return "", api.ErrNil
 	}
-	return "", api.OK
+	if file < 0 || file >= len(a.names) {
+		return "", api.ErrRange
+	}
+	from, to := a.ends.File(file)
+	// What is left behind at, rather than at plus n, which may wrap round.
+	if at < 0 || n < 0 || n > to-from-at {
+		return "", api.ErrRange
+	}
+	return a.part(from+at+n, n), api.OK
 }
 
 // Count tells how often a pattern is there (P9).
@@ -80,7 +89,10 @@ func (a *Archive) Count(pattern string) (int, api.Errno) {
 	if a == nil {
 		return 0, api.ErrNil
 	}
-	return 0, api.OK
+	if pattern == "" {
+		return 0, api.ErrPattern
+	}
+	return len(a.places(pattern)), api.OK
 }
 
 // Locate tells the first places where a pattern is (P10).
@@ -88,5 +100,9 @@ func (a *Archive) Locate(pattern string, most int) ([]api.Place, api.Errno) {
 	if a == nil {
 		return nil, api.ErrNil
 	}
-	return nil, api.OK
+	if pattern == "" || most < 0 {
+		return nil, api.ErrPattern
+	}
+	places := a.places(pattern)
+	return slices.Clone(places[:min(most, len(places))]), api.OK
 }

@@ -116,5 +116,9 @@ func ofColumn(column string, root int) string {
 
 // An archive that nobody loaded has no files, and can be asked.
 func TestEmptyArchive(t *testing.T) {
-	holds(t, "made by new", new(hoard.Archive), nil)
+	a := new(hoard.Archive)
+	answers(t, "made by new", a, nil)
+	if s, e := a.Extract(0, 0, 0); s != "" || e != api.ErrRange {
+		t.Errorf("Extract: %q, %d", s, e)
+	}
 }

@@ -107,6 +107,7 @@ func edges() map[string][]api.File {
 		"empty files around a full one": named("", someBytes(1, 77, 5), "", ""),
 		"one byte":                      named("\x00"),
 		"the last byte":                 named("\xff\xff", "\xff"),
+		"one byte again and again":      named(strings.Repeat("z", 100), "", strings.Repeat("z", 29)),
 		"one byte up to the limit":      named(strings.Repeat("a", api.MaxFile)),
 		"one byte up to the total":      named(strings.Repeat("a", api.MaxFile), strings.Repeat("a", api.MaxFile)),
 		"all bytes":                     named(allBytes()),

@@ -1,7 +1,11 @@
 // Package index holds the rows of bits that an archive is built up from.
 package index
 
-import "hoard/bitrow"
+import (
+	"sort"
+
+	"hoard/bitrow"
+)
 
 // Ends is where the files end: of each end the low bits, then one row in which
 // the ones tell the high bits: so it stands on counted bits.
@@ -80,6 +84,12 @@ func (e *Ends) File(number int) (from, to int) {
 		from = e.end(number - 1)
 	}
 	return from, e.end(number)
+}
+
+// Holder tells which file has the byte of the text at a place. It ends behind
+// that place, and no file ahead of it does: so none that is empty is told.
+func (e *Ends) Holder(place int) int {
+	return sort.Search(e.files, func(i int) bool { return e.end(i) > place })
 }
 
 func (e *Ends) end(number int) int {

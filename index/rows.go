@@ -27,9 +27,21 @@ func (r *Rows) Longer(row int) (byte, int) {
 	if row == r.root {
 		return 0, 0
 	}
-	if row > r.root {
-		row--
-	}
-	b, ahead := r.Byte(row)
+	b, ahead := r.Byte(r.column(row))
 	return b, r.firsts[b] + ahead
+}
+
+// Bounds tells, of the rows from one on up to another, which rows' endings are
+// theirs with a byte ahead: these too stand one behind the other.
+func (r *Rows) Bounds(b byte, from, to int) (int, int) {
+	first := r.firsts[b]
+	return first + r.Ahead(b, r.column(from)), first + r.Ahead(b, r.column(to))
+}
+
+// column tells how many bytes of the column stand ahead of a row's.
+func (r *Rows) column(row int) int {
+	if row > r.root {
+		return row - 1
+	}
+	return row
 }

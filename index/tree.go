@@ -10,6 +10,7 @@ import (
 // ones are ahead in a node tells where to go on in the next one.
 type Tree struct {
 	bitrow.Counted
+	table   codes.Table
 	nodes   []node
 	weights [256]int
 	total   int
@@ -70,7 +71,7 @@ func MakeTree(column []byte, lengths codes.Lengths) Tree {
 			}
 		}
 	}
-	tree := Tree{Counted: bitrow.Count(row.Row()), nodes: nodes, total: len(column)}
+	tree := Tree{Counted: bitrow.Count(row.Row()), table: table, nodes: nodes, total: len(column)}
 	tree.lay()
 	return tree
 }
@@ -83,7 +84,7 @@ func ReadTree(bytes string, total int, lengths codes.Lengths) (Tree, bool) {
 	}
 	// How long the row is, only its bits tell; but not longer than this.
 	most := min(8*len(bytes), total*lengths.Longest())
-	tree := Tree{Counted: bitrow.Count(bitrow.Read(bytes, most)), nodes: shape(lengths), total: total}
+	tree := Tree{Counted: bitrow.Count(bitrow.Read(bytes, most)), table: codes.Assign(lengths), nodes: shape(lengths), total: total}
 	length, fits := tree.lay()
 	if !fits {
 		return Tree{}, false
@@ -133,15 +134,33 @@ func (t *Tree) Total() int { return t.total }
 func (t *Tree) Byte(at int) (b byte, ahead int) {
 	var here branch
 	for !here.whole {
-		from := t.nodes[here.node].from
-		side := t.Bit(from + at)
-		ones := t.Ones(from+at) - t.Ones(from)
-		if side == 1 {
-			at = ones
-		} else {
-			at -= ones
-		}
-		here = t.nodes[here.node].branches[side]
+		side := t.Bit(t.nodes[here.node].from + at)
+		here, at = t.follow(here, side, at)
 	}
 	return here.value, at
+}
+
+// Ahead tells how many bytes of a kind stand ahead of a byte of the column; at
+// the column's end, how many it has.
+func (t *Tree) Ahead(b byte, at int) int {
+	code := t.table[b]
+	if code.Length == 0 {
+		return 0
+	}
+	var here branch
+	for depth := range code.Length {
+		here, at = t.follow(here, code.Bit(depth), at)
+	}
+	return at
+}
+
+// follow goes on behind a node's bits of one side, and tells how many of them
+// stand ahead of a bit of that node: what goes on has these ahead of it.
+func (t *Tree) follow(here branch, side, at int) (branch, int) {
+	from := t.nodes[here.node].from
+	ahead := t.Ones(from+at) - t.Ones(from)
+	if side == 0 {
+		ahead = at - ahead
+	}
+	return t.nodes[here.node].branches[side], ahead
 }
